@@ -1,0 +1,1 @@
+"""Filerights: who can ever do what in a tree of folders and files."""
