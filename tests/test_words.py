@@ -10,7 +10,9 @@ from helpers import SIGNS, any_values, raised
 
 NAMES = ["a", "z", "ann", "root", "tmp", "abcdefgh", "zzzzzzzz"]
 PATHS = ["/", "/a", "/home", "/home/ann", "/root", "/a/a/a", "/abcdefgh/abcdefgh", "/a" * 20, "/abcdefgh" * 300]
-NO_NAMES = ["", "abcdefghi", "Ann", "aNn", "a1", "1", "a_b", "a-b", "a b", " a", "a ", "a\n", "\na", "\n", "/", "/a", "\u00e4nn"]
+NO_NAMES = [
+    "", "abcdefghi", "Ann", "aNn", "a1", "1", "a_b", "a-b", "a b", " a", "a ", "a\n", "\na", "\n", "/", "/a", "\u00e4nn",
+]
 NO_PATHS = [
     "", "a", "a/b", "//", "/a/", "//a", "/a//b", "/A", "/a b", "/a/b1", "/a\n", "\n/a", "/\n", " /", "/ ", "/abcdefghi",
     "/a/abcdefghi", "/.", "/..", "/a/./b", "\\a",
