@@ -92,7 +92,7 @@ def _is_letters(value):
     """Return True if any value is a string that contains each letter at most once, and nothing else."""
     if not isinstance(value, str):
         return False
-    return all([letter in LETTER_DIGITS and value.count(letter) == 1 for letter in value])
+    return len(value) == len(set(value)) and all([letter in LETTER_DIGITS for letter in value])
 
 
 def _letters_with(digit):

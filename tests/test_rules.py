@@ -24,8 +24,79 @@ LIBRARY = {"heapq", "math", "itertools", "collections"}
 BARRED = set("type typing enum dataclass namedtuple register elements open input law eval exec global async".split())
 
 
+# Python runs these by itself, wherever a sign or a plain look at an object stands.
+RUN_BY_SIGNS = DOUBLE - {"__init__", "__enter__", "__exit__", "__call__", "__iter__", "__setitem__"}
+CHANGES = set("append clear extend insert pop remove reverse setdefault update add discard".split())
+
+
 def trees():
     return [(file.name, ast.parse(file.read_text())) for file in FILES]
+
+
+def functions(all_trees):
+    """Return the functions and methods of the trees by their names; a class stands for its __init__."""
+    found = {}
+    for _, tree in all_trees:
+        for node in ast.walk(tree):
+            if isinstance(node, ast.FunctionDef):
+                found.setdefault(node.name, []).append(node)
+            if isinstance(node, ast.ClassDef):
+                found.setdefault(node.name, []).extend(
+                    [part for part in node.body if isinstance(part, ast.FunctionDef) and part.name == "__init__"])
+    return found
+
+
+def attributes(all_trees):
+    """Return the names that are attributes, or properties, of some class."""
+    found = set()
+    for _, tree in all_trees:
+        for node in ast.walk(tree):
+            if isinstance(node, ast.Attribute) and isinstance(node.ctx, ast.Store):
+                found.add(node.attr)
+            if isinstance(node, ast.FunctionDef) and is_property(node):
+                found.add(node.name)
+    return found
+
+
+def is_property(function):
+    return any([isinstance(part, ast.Name) and part.id == "property" for part in function.decorator_list])
+
+
+def calls_in(function):
+    return [node.func for node in ast.walk(function) if isinstance(node, ast.Call)]
+
+
+def run_by_signs(all_trees):
+    """Return what operators, properties, ==, str, repr and len run, at any depth."""
+    known, found = functions(all_trees), []
+    waiting = [part for name in known for part in known[name] if name in RUN_BY_SIGNS or is_property(part)]
+    while waiting:
+        function = waiting.pop()
+        if function in found:
+            continue
+        found.append(function)
+        for called in calls_in(function):
+            name = called.id if isinstance(called, ast.Name) else getattr(called, "attr", "")
+            waiting.extend([function] if name == "cls" else known.get(name, []))
+    return found
+
+
+def faults_in(all_trees):
+    """Return what is called, or changed, where operators and their like run, and must not be."""
+    held, known, faults = attributes(all_trees), functions(all_trees), []
+    for function in run_by_signs(all_trees):
+        parameters = [part.arg for part in function.args.args]
+        for called in calls_in(function):
+            if isinstance(called, ast.Attribute):
+                if called.attr in held | (CHANGES - set(known)):
+                    faults.append((function.name, called.attr))
+            elif not isinstance(called, ast.Name) or called.id in parameters:
+                faults.append((function.name, ast.dump(called)))
+        for node in ast.walk(function):
+            stored = isinstance(node, (ast.Attribute, ast.Subscript)) and not isinstance(node.ctx, ast.Load)
+            if stored and function.name != "__init__":
+                faults.append((function.name, ast.unparse(node)))
+    return faults
 
 
 class RulesTest(unittest.TestCase):
@@ -92,6 +163,21 @@ class RulesTest(unittest.TestCase):
                     for part in node.args:
                         if isinstance(part, ast.Starred):
                             self.assertIsInstance(part.value, (ast.Name, ast.Attribute), name)
+
+    def test_what_operators_and_properties_run(self):
+        self.assertEqual(faults_in(trees()), [])
+        self.assertGreater(len(run_by_signs(trees())), 20)
+
+    def test_a_fault_behind_an_operator_is_seen(self):
+        text = (
+            "class Box:\n    def __init__(self, count):\n        self.count = told(count)\n"
+            "    def __or__(self, other):\n        return Box(other)\n"
+            "def told(value):\n    return value.count('a')\n"
+        )
+        self.assertEqual(faults_in([("box.py", ast.parse(text))]), [("told", "count")])
+        changed = "def told(value):\n    value.append(1)\n    value.count = 2\n    return value(1)\n"
+        told = faults_in([("box.py", ast.parse(text[:text.index("def told")] + changed))])
+        self.assertEqual([name for name, _ in told], ["told"] * 3)
 
 
 if __name__ == "__main__":
