@@ -1,10 +1,14 @@
 """What several tests need: values of every kind, errors that are caught, and examples that are run."""
 
 from filerights.errors import Denied, InvalidName, NothingToUndo
+from filerights.house import House
+from filerights.judge import Judge
 from filerights.lists import AccessList
+from filerights.people import People
 from filerights.rights import Rights
 
 SIGNS = [chr(code) for code in range(32, 127) if chr(code) != "%"] + ["\n"]
+PEOPLE = People({"zed": ["zoo"]})
 
 
 def any_values():
@@ -23,6 +27,7 @@ def any_values():
         {}, {"ann": "r"}, {1: "r"}, {"users": {"ann": ["r"]}}, {str(key): key for key in range(700)},
         Rights(), Rights("r"), Rights("rwx"), [Rights("r")], {"ann": Rights("r")},
         AccessList("rwx", "rx", ""), AccessList("rw", "r", "", users={"ann": "rw"}),
+        PEOPLE, House(PEOPLE), House(PEOPLE)["/"], [House(PEOPLE)], Judge(PEOPLE),
         InvalidName("root"), Denied("/tmp", "wx"), NothingToUndo(),
     ]
 

@@ -2,7 +2,11 @@
 
 import unittest
 
+from filerights.deeds import do, is_deed, run
+from filerights.house import House, lacking, letters_at, may, who_may
+from filerights.judge import Judge
 from filerights.lists import AccessList, is_digits, without_letters
+from filerights.people import People
 from filerights.rights import Rights, as_rights, is_rights
 from filerights.words import above, is_below, is_integer, is_list, is_name, is_path, joined, parse_integer
 from filerights.words import parts_of, split_words
@@ -10,8 +14,9 @@ from helpers import shown
 
 NAMES = {
     tool.__name__: tool for tool in (
-        AccessList, Rights, above, as_rights, is_below, is_digits, is_integer, is_list, is_name, is_path, is_rights,
-        joined, parse_integer, parts_of, split_words, without_letters,
+        AccessList, House, Judge, People, Rights, above, as_rights, do, is_below, is_deed, is_digits, is_integer, is_list,
+        is_name, is_path, is_rights, joined, lacking, letters_at, may, parse_integer, parts_of, run, split_words,
+        who_may, without_letters,
     )
 }
 
@@ -42,6 +47,38 @@ POINT_35 = """
     [True, True, '640']
 """
 
+POINT_44 = """
+    >>> people = People({"ann": ["staff", "chess"], "bob": ["staff"]})
+    >>> judge, access = Judge(people), AccessList("rwx", "rw", "x", groups={"chess": "x"})
+    >>> [judge("ann", "root", "staff", access, "rw"), judge("ann", "root", "staff", access, "wx"), judge("ann", "root", "staff", access, "")]
+    [True, False, True]
+    >>> [judge.deciding("ann", "root", "staff", access, "wx"), judge.deciding("ann", "root", "staff", access, "x")]
+    [(False, [('group', ''), ('named', 'chess')]), (True, [('named', 'chess')])]
+    >>> [str(judge.letters_of("ann", "root", "staff", access)), judge("bob", "bob", "staff", AccessList.plain("077"), "r")]
+    ['rwx', False]
+"""
+
+POINT_55 = """
+    >>> house = House(People({"ann": ["staff"], "bob": ["guests", "staff"]}))
+    >>> house.add("/lab", "folder", owner="ann", group="staff", access=AccessList.plain("750"))
+    >>> house.add("/lab/plan", "file", owner="ann", group="guests", access=AccessList("rw", "r", ""), content="north")
+    >>> [may(house, "bob", "/lab/plan", "r"), who_may(house, "/lab", "w"), lacking(house, "bob", "/lab/plan/old"), len(house), house.umask_of("bob")]
+    [True, ['ann'], ('/lab/plan', 'file'), 2, '022']
+    >>> house["/lab"] = AccessList.plain("700")
+    >>> [lacking(house, "bob", "/lab/plan"), str(letters_at(house, "ann", "/lab/plan")), [path for path, node in house.walk("/lab")]]
+    [('/lab', 'x'), 'rw-', ['/lab', '/lab/plan']]
+"""
+
+POINT_62 = """
+    >>> house = House(People({"ann": ["staff"], "bob": ["guests", "staff"]}))
+    >>> [do(house, ("ann", "folder", "/tmp/lab", "777")), do(house, ("ann", "mark", "/tmp/lab", False, True))]
+    [None, None]
+    >>> do(house, ("bob", "file", "/tmp/lab/plan", "666"))
+    raises Denied('/tmp/lab', 'wx')
+    >>> [str(house["/tmp/lab"].access), house.umask_of("bob")]
+    ['u::rwx,g::r-x,o::r-x', '022']
+"""
+
 
 class ExamplesTest(unittest.TestCase):
     def check(self, text, count):
@@ -61,6 +98,15 @@ class ExamplesTest(unittest.TestCase):
 
     def test_point_35(self):
         self.check(POINT_35, 3)
+
+    def test_point_44(self):
+        self.check(POINT_44, 5)
+
+    def test_point_55(self):
+        self.check(POINT_55, 6)
+
+    def test_point_62(self):
+        self.check(POINT_62, 4)
 
     def test_the_runner_sees_what_differs(self):
         rows = shown(">>> 1 + 1\n3\n>>> above('a')\nraises InvalidPath('a')", dict(NAMES))

@@ -12,6 +12,11 @@ FUNCTIONS = {
     },
     "rights": {"is_rights": "(value)", "as_rights": "(value)"},
     "lists": {"is_digits": "(value)", "without_letters": "(digits, umask)"},
+    "house": {
+        "lacking": "(house, user, path)", "may": "(house, user, path, letters)", "who_may": "(house, path, letters)",
+        "letters_at": "(house, user, path)",
+    },
+    "deeds": {"is_deed": "(value)", "do": "(house, deed)", "run": "(house, deeds)"},
 }
 
 CLASSES = {
@@ -27,11 +32,33 @@ CLASSES = {
         "with_digits": "(self, digits)", "narrowed": "(self, digits)", "plain": "(digits)", "from_text": "(text)",
         "everything": "()", "__eq__": "(self, other)", "__str__": "(self)", "__len__": "(self)",
     },
+    ("people", "People"): {
+        "": "(members)", "users": "(self)", "groups": "(self)", "groups_of": "(self, user)",
+        "first_group": "(self, user)", "members": "(self, group)", "__contains__": "(self, value)", "__len__": "(self)",
+        "__eq__": "(self, other)",
+    },
+    ("judge", "Judge"): {
+        "": "(people)", "__call__": "(self, user, owner, group, access, letters)",
+        "deciding": "(self, user, owner, group, access, letters)", "letters_of": "(self, user, owner, group, access)",
+    },
+    ("house", "Node"): {"__eq__": "(self, other)"},
+    ("house", "House"): {
+        "": "(people)", "__getitem__": "(self, path)", "__setitem__": "(self, path, access)",
+        "__contains__": "(self, value)", "__len__": "(self)", "__eq__": "(self, other)", "paths": "(self)",
+        "names_in": "(self, path)", "walk": "(self, path='/')",
+        "add": "(self, path, kind, *, owner='root', group='root', access=None, content='')", "cut": "(self, path)",
+        "shift": "(self, path, to)", "give": "(self, path, *, owner=None, group=None)",
+        "mark": "(self, path, *, sticky=None, passes=None)", "set_default": "(self, path, access)",
+        "set_content": "(self, path, content)", "set_umask": "(self, user, digits)", "umask_of": "(self, user)",
+        "copied": "(self)", "restore": "(self, kept)",
+    },
 }
 
 PROPERTIES = {
     ("rights", "Rights"): ["digit"],
     ("lists", "AccessList"): ["owner", "group", "other", "mask", "digits"],
+    ("house", "Node"): ["kind", "owner", "group", "access", "sticky", "passes", "default", "content", "number"],
+    ("house", "House"): ["people"],
 }
 
 WRAPPERS = {
@@ -70,6 +97,11 @@ class InterfaceTest(unittest.TestCase):
         for (file, name), methods in WRAPPERS.items():
             for method, wrapper in methods.items():
                 self.assertIsInstance(vars(getattr(module(file), name))[method], wrapper)
+
+    def test_the_state_is_a_field_of_each_house(self):
+        people = module("people").People({"ann": ["staff"]})
+        self.assertIn("state", vars(module("house").House(people)))
+        self.assertTrue(inspect.isgeneratorfunction(module("house").House.walk))
 
 
 if __name__ == "__main__":

@@ -20,6 +20,8 @@ METHODS = set(
     "items join keys ljust lower lstrip partition pop remove replace reverse rfind rjust rpartition rsplit rstrip "
     "setdefault split splitlines startswith strip update upper values zfill bit_length isascii add discard".split()
 )
+# A function that is taken from a table has a name first, and so has an object that is called.
+CALLED_VARIABLES = {"cls", "heappush", "heappop", "defaultdict", "action", "judge"}
 LIBRARY = {"heapq", "math", "itertools", "collections"}
 BARRED = set("type typing enum dataclass namedtuple register elements open input law eval exec global async".split())
 
@@ -147,7 +149,7 @@ class RulesTest(unittest.TestCase):
         for name, tree in trees():
             for node in ast.walk(tree):
                 if isinstance(node, ast.Call) and isinstance(node.func, ast.Name):
-                    self.assertIn(node.func.id, own | {"cls", "heappush", "heappop", "defaultdict"}, name)
+                    self.assertIn(node.func.id, own | CALLED_VARIABLES, name)
                 if isinstance(node, ast.Call) and isinstance(node.func, ast.Attribute):
                     self.assertIn(node.func.attr, own | METHODS, name)
 
@@ -163,6 +165,34 @@ class RulesTest(unittest.TestCase):
                     for part in node.args:
                         if isinstance(part, ast.Starred):
                             self.assertIsInstance(part.value, (ast.Name, ast.Attribute), name)
+
+    def test_what_goes_with_an_index(self):
+        for name, tree in trees():
+            for node in ast.walk(tree):
+                if isinstance(node, ast.ClassDef):
+                    methods = [part.name for part in node.body if isinstance(part, ast.FunctionDef)]
+                    self.assertTrue("__getitem__" not in methods or "__iter__" in methods, node.name)
+        for file in FILES:
+            for word in ("(type)", "Meta", "metaclass="):
+                self.assertNotIn(word, file.read_text())
+        self.assertNotIn("keys", attributes(trees()) | set(functions(trees())))
+
+    def test_what_goes_with_a_method_add(self):
+        kept = [node for _, tree in trees() for node in ast.walk(tree)
+                if isinstance(node, ast.Assign) and isinstance(node.value, (ast.Set, ast.SetComp))]
+        self.assertEqual(kept, [])
+
+    def test_no_name_is_a_method_and_a_property_or_an_attribute(self):
+        for name, tree in trees():
+            for node in ast.walk(tree):
+                if isinstance(node, ast.ClassDef):
+                    parts = [part for part in node.body if isinstance(part, ast.FunctionDef)]
+                    stored = [part.attr for part in ast.walk(node)
+                              if isinstance(part, ast.Attribute) and isinstance(part.ctx, ast.Store)]
+                    self.assertFalse({part.name for part in parts} & set(stored), node.name)
+        properties = {part.name for parts in functions(trees()).values() for part in parts if is_property(part)}
+        for name in properties:
+            self.assertTrue(all([is_property(part) for part in functions(trees())[name]]), name)
 
     def test_what_operators_and_properties_run(self):
         self.assertEqual(faults_in(trees()), [])
