@@ -338,13 +338,15 @@ def letters_at(house, user, path):
     """Return the rights of all letters that a user is granted one by one at a node, or None if they do not reach it."""
     if lacking(house, user, path) is not None:
         return None
-    node, judge = house[path], Judge(house.people)
+    node = house[path]
+    judge = Judge(house.people)
     return judge.letters_of(user, node.owner, node.group, node.access)
 
 
 def is_granted(house, user, path, letters):
     """Return True if a user is granted letters at a node, whether they reach it or not."""
-    node, judge = house[path], Judge(house.people)
+    node = house[path]
+    judge = Judge(house.people)
     return judge(user, node.owner, node.group, node.access, letters)
 
 
