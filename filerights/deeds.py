@@ -1,10 +1,10 @@
 """Deeds: what users do in a house, as far as its rights let them."""
 
 from filerights.errors import Absent, DeedFailed, Denied, Ground, Held, Inside, InvalidDeed, InvalidDeeds
-from filerights.errors import InvalidHouse, MissingError, NotEmpty, NotFile, NotFolder, NotMember, NotOwner
-from filerights.errors import RefusedError, RightsError, Taken, UnknownUser
-from filerights.house import GROUND, House, is_granted, lacking
-from filerights.lists import AccessList, is_digits, without_letters
+from filerights.errors import MissingError, NotEmpty, NotFile, NotFolder, NotMember, NotOwner, RefusedError
+from filerights.errors import RightsError, Taken, UnknownUser
+from filerights.house import GROUND, check_house, is_granted, lacking
+from filerights.lists import AccessList, is_digits, new_list
 from filerights.words import above, is_below, is_list, is_name, is_path, is_user_name
 
 PARTS = {
@@ -29,8 +29,12 @@ def is_deed(value):
     user, word, *parts = value
     if not is_user_name(user) or not isinstance(word, str) or word not in PARTS:
         return False
-    kinds = PARTS[word]
-    return len(parts) == len(kinds) and all([_is_part(kind, part) for kind, part in zip(kinds, parts)])
+    return are_parts(PARTS[word], parts)
+
+
+def are_parts(kinds, values):
+    """Return True if any values, in a list, are as many as these kinds, and each of its kind."""
+    return len(values) == len(kinds) and all([_is_part(kind, value) for kind, value in zip(kinds, values)])
 
 
 def _is_part(kind, value):
@@ -143,10 +147,7 @@ def _make(house, user, path, kind, digits):
     _ask_place(house, user, path)
     folder = house[above(path)]
     group = folder.group if folder.passes else house.people.first_group(user)
-    if folder.default is None:
-        access = AccessList.plain(without_letters(digits, house.umask_of(user)))
-    else:
-        access = folder.default.narrowed(digits)
+    access = new_list(folder.default, digits, house.umask_of(user))
     house.add(path, kind, owner=user, group=group, access=access)
 
 
@@ -221,8 +222,7 @@ ACTIONS = {
 
 def do(house, deed):
     """Carry out a deed in a house, and return the content that it reads, or None."""
-    if not isinstance(house, House):
-        raise InvalidHouse(house)
+    check_house(house)
     if not is_deed(deed):
         raise InvalidDeed(deed)
     user, word, *parts = deed
@@ -234,8 +234,7 @@ def do(house, deed):
 
 def run(house, deeds):
     """Carry out a list of deeds, all or none, and return the list of what they return."""
-    if not isinstance(house, House):
-        raise InvalidHouse(house)
+    check_house(house)
     if not is_list(deeds):
         raise InvalidDeeds(deeds)
     for deed in deeds:

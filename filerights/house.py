@@ -329,7 +329,7 @@ def may(house, user, path, letters):
 
 def who_may(house, path, letters):
     """Return the list of the users who reach the node at a path and are granted the letters there."""
-    _check_house(house)
+    check_house(house)
     _check_letters(path, letters)
     return [user for user in house.people.users() if may(house, user, path, letters)]
 
@@ -362,7 +362,7 @@ def _check_list(access):
         raise InvalidList(access)
 
 
-def _check_house(house):
+def check_house(house):
     """Raise an error if this is not a house."""
     if not isinstance(house, House):
         raise InvalidHouse(house)
@@ -370,7 +370,7 @@ def _check_house(house):
 
 def _check_asked(house, user):
     """Raise an error if there is no such house, or no such user in it."""
-    _check_house(house)
+    check_house(house)
     if user not in house.people:
         raise UnknownUser(user)
 

@@ -172,6 +172,13 @@ def without_letters(digits, umask):
     return "".join([str((rights - gone).digit) for rights, gone in zip(kept, lost)])
 
 
+def new_list(default, digits, umask):
+    """Return the list of a new node in a folder with this default list, or None, by the digits and the umask."""
+    if default is None:
+        return AccessList.plain(without_letters(digits, umask))
+    return default.narrowed(digits)
+
+
 def _three_rights(digits):
     """Return the list of the rights that three digits stand for."""
     if not is_digits(digits):

@@ -3,20 +3,25 @@
 import unittest
 
 from filerights.deeds import do, is_deed, run
+from filerights.futures import Future, is_closed
+from filerights.goals import check, decide, is_goal, is_met, support
 from filerights.house import House, lacking, letters_at, may, who_may
 from filerights.judge import Judge
 from filerights.lists import AccessList, is_digits, without_letters
+from filerights.makers import Start, alike, is_script, made, without_effect
 from filerights.people import People
 from filerights.rights import Rights, as_rights, is_rights
+from filerights.seats import History, Seat, Trial, tried
 from filerights.words import above, is_below, is_integer, is_list, is_name, is_path, joined, parse_integer
 from filerights.words import parts_of, split_words
 from helpers import shown
 
 NAMES = {
     tool.__name__: tool for tool in (
-        AccessList, House, Judge, People, Rights, above, as_rights, do, is_below, is_deed, is_digits, is_integer, is_list,
-        is_name, is_path, is_rights, joined, lacking, letters_at, may, parse_integer, parts_of, run, split_words,
-        who_may, without_letters,
+        AccessList, Future, History, House, Judge, People, Rights, Seat, Start, Trial, above, alike, as_rights, check, decide,
+        do, is_below, is_closed, is_deed, is_digits, is_goal, is_integer, is_list, is_met, is_name, is_path, is_rights,
+        is_script, joined, lacking, letters_at, made, may, parse_integer, parts_of, run, split_words, support, tried,
+        who_may, without_effect, without_letters,
     )
 }
 
@@ -79,6 +84,49 @@ POINT_62 = """
     ['u::rwx,g::r-x,o::r-x', '022']
 """
 
+# It goes on with the house of the example before.
+POINT_66 = """
+    >>> history = History(house)
+    >>> [history.do(("bob", "file", "/tmp/note", "640")), history.do(("bob", "write", "/tmp/note", "hi")), history.undo()[1], len(history)]
+    [None, None, 'write', 1]
+    >>> [Seat(house, "bob").read("/tmp/note"), history.undo()[1], "/tmp/note" in house]
+    ['', 'file', False]
+"""
+
+POINT_75 = """
+    >>> one, other = [("file", "/a", "644")], [("file", "/a", "666"), ("digits", "/a", "644")]
+    >>> [alike(one, other) is None, str(made(one, Start(umask="077"))["/a"][2]), str(made(other, Start(umask="077"))["/a"][2])]
+    [False, 'u::rw-,g::---,o::---', 'u::rw-,g::r--,o::r--']
+    >>> script = [("umask", "027"), ("folder", "/d", "777"), ("umask", "027"), ("file", "/d/a", "600")]
+    >>> [without_effect(script), is_script(script[2:]), made(script, Start(), first="staff")["/d/a"][:2]]
+    [[2], False, ('file', 'staff')]
+"""
+
+POINT_85 = """
+    >>> house = House(People({"ann": ["staff"], "bob": ["staff"], "cal": ["guests"]}))
+    >>> house.add("/lab", "folder", owner="root", group="staff", access=AccessList.plain("770"))
+    >>> house.add("/lab/box", "folder", owner="bob", group="guests", access=AccessList.plain("700"))
+    >>> house.add("/lab/box/note", "file", owner="bob", group="guests", access=AccessList.plain("640"))
+    >>> future = Future(house, ["ann", "cal"])
+    >>> [future.reaches("ann", "/lab/box"), future.takes("ann", "/lab/box"), future.away(), future.opened(), future.can("ann", "/lab/box/note", "r"), future.reaches("cal", "/lab")]
+    [True, True, [], [], False, True]
+    >>> [Future(house, ["cal", "bob"]).opened(), Future(house, ["bob", "cal"]).reaches("cal", "/lab/box/note"), is_closed(house, ["ann"], {"reach": [], "opened": [], "away": []})]
+    [['/lab/box', '/lab/box/note'], True, False]
+"""
+
+POINT_96 = """
+    >>> house = House(People({"ann": ["staff"], "bob": ["staff"]}))
+    >>> house.add("/lab", "folder", group="staff", access=AccessList.plain("770"))
+    >>> house.add("/lab/note", "file", owner="bob", access=AccessList.plain("600"))
+    >>> word, deeds = decide(house, ["ann"], ("led", "bob", "/lab/note"))
+    >>> [word, is_met(house, ["ann"], ("led", "bob", "/lab/note"), deeds), decide(house, ["ann"], ("read", "/lab/note"))[0]]
+    ['row', True, 'never']
+    >>> support(house, [("ann", "move", "/lab/note", "/lab/old")])[:2]
+    [('take', '/lab', 'group', '', 'w'), ('take', '/lab', 'group', '', 'x')]
+    >>> list(Future(house, ["ann"]).each_goal())[:4]
+    [('gone', '/lab/note'), ('lost', '/lab/note'), ('made', '/lab/note'), ('led', 'bob', '/lab/note')]
+"""
+
 
 class ExamplesTest(unittest.TestCase):
     def check(self, text, count):
@@ -107,6 +155,18 @@ class ExamplesTest(unittest.TestCase):
 
     def test_point_62(self):
         self.check(POINT_62, 4)
+
+    def test_point_66(self):
+        self.check(POINT_62 + POINT_66, 7)
+
+    def test_point_75(self):
+        self.check(POINT_75, 4)
+
+    def test_point_85(self):
+        self.check(POINT_85, 7)
+
+    def test_point_96(self):
+        self.check(POINT_96, 7)
 
     def test_the_runner_sees_what_differs(self):
         rows = shown(">>> 1 + 1\n3\n>>> above('a')\nraises InvalidPath('a')", dict(NAMES))

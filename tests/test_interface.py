@@ -17,6 +17,16 @@ FUNCTIONS = {
         "letters_at": "(house, user, path)",
     },
     "deeds": {"is_deed": "(value)", "do": "(house, deed)", "run": "(house, deeds)"},
+    "seats": {"tried": "(house, deeds)"},
+    "makers": {
+        "is_script": "(value)", "made": "(script, start, *, first='own')", "alike": "(one, other)",
+        "without_effect": "(script)",
+    },
+    "futures": {"is_closed": "(house, free, table)"},
+    "goals": {
+        "is_goal": "(house, free, goal)", "is_met": "(house, free, goal, deeds)", "decide": "(house, free, goal)",
+        "check": "(house, free, goal, answer)", "support": "(house, deeds)",
+    },
 }
 
 CLASSES = {
@@ -52,6 +62,22 @@ CLASSES = {
         "set_content": "(self, path, content)", "set_umask": "(self, user, digits)", "umask_of": "(self, user)",
         "copied": "(self)", "restore": "(self, kept)",
     },
+    ("seats", "Seat"): {
+        "": "(house, user)", "read": "(self, path)", "write": "(self, path, content)",
+        "file": "(self, path, *, mode='666')", "folder": "(self, path, *, mode='777')", "move": "(self, path, to)",
+        "remove": "(self, path)", "allow": "(self, path, access)", "set_default": "(self, path, access)",
+        "mark": "(self, path, *, sticky, passes)", "give": "(self, path, group)", "set_umask": "(self, digits)",
+    },
+    ("seats", "Trial"): {"": "(house)", "__enter__": "(self)", "__exit__": "(self, kind, value, trace)"},
+    ("seats", "History"): {
+        "": "(house)", "do": "(self, deed)", "undo": "(self)", "deeds": "(self)", "__len__": "(self)",
+    },
+    ("makers", "Start"): {"": "(*, default=None, group='root', passes=False, umask='000')", "__eq__": "(self, other)"},
+    ("futures", "Future"): {
+        "": "(house, free)", "reaches": "(self, user, path)", "can": "(self, user, path, letters)",
+        "takes": "(self, user, path)", "opened": "(self)", "away": "(self)", "table": "(self)", "is_so": "(self, goal)",
+        "each_goal": "(self)",
+    },
 }
 
 PROPERTIES = {
@@ -59,6 +85,9 @@ PROPERTIES = {
     ("lists", "AccessList"): ["owner", "group", "other", "mask", "digits"],
     ("house", "Node"): ["kind", "owner", "group", "access", "sticky", "passes", "default", "content", "number"],
     ("house", "House"): ["people"],
+    ("seats", "Seat"): ["user", "umask"],
+    ("makers", "Start"): ["default", "group", "passes", "umask"],
+    ("futures", "Future"): ["free"],
 }
 
 WRAPPERS = {
@@ -101,7 +130,10 @@ class InterfaceTest(unittest.TestCase):
     def test_the_state_is_a_field_of_each_house(self):
         people = module("people").People({"ann": ["staff"]})
         self.assertIn("state", vars(module("house").House(people)))
+
+    def test_generators(self):
         self.assertTrue(inspect.isgeneratorfunction(module("house").House.walk))
+        self.assertTrue(inspect.isgeneratorfunction(module("futures").Future.each_goal))
 
 
 if __name__ == "__main__":

@@ -1,6 +1,7 @@
 """Rules of the language that the files of the package keep to, as far as they are easily seen."""
 
 import ast
+import builtins
 import pathlib
 import unittest
 
@@ -101,6 +102,34 @@ def faults_in(all_trees):
     return faults
 
 
+def bound_in(function):
+    """Return the names that a function binds: parameters, local variables and the names of caught errors."""
+    names = [part.arg for part in ast.walk(function) if isinstance(part, ast.arg)]
+    names += [part.id for part in ast.walk(function) if isinstance(part, ast.Name) and isinstance(part.ctx, ast.Store)]
+    return names + [part.name for part in ast.walk(function) if isinstance(part, ast.ExceptHandler) and part.name]
+
+
+def is_generator(function):
+    return any([isinstance(part, (ast.Yield, ast.YieldFrom)) for part in ast.walk(function)])
+
+
+def is_set(node):
+    if isinstance(node, (ast.Set, ast.SetComp)):
+        return True
+    return isinstance(node, ast.Call) and isinstance(node.func, ast.Name) and node.func.id == "set"
+
+
+def sets_in_place(tree):
+    """Return the sets that stand where they may: in len or sorted, behind in, and beside == or !=."""
+    found = []
+    for node in ast.walk(tree):
+        if isinstance(node, ast.Call) and isinstance(node.func, ast.Name) and node.func.id in ("len", "sorted"):
+            found.extend(node.args)
+        if isinstance(node, ast.Compare):
+            found.extend([node.left, *node.comparators])
+    return [node for node in found if is_set(node)]
+
+
 class RulesTest(unittest.TestCase):
     def test_the_folder_holds_only_files_of_the_package(self):
         for entry in PACKAGE.rglob("*"):
@@ -181,6 +210,63 @@ class RulesTest(unittest.TestCase):
         kept = [node for _, tree in trees() for node in ast.walk(tree)
                 if isinstance(node, ast.Assign) and isinstance(node.value, (ast.Set, ast.SetComp))]
         self.assertEqual(kept, [])
+
+    def test_names_that_are_bound(self):
+        for name, tree in trees():
+            taken = set(dir(builtins))
+            for node in tree.body:
+                if isinstance(node, ast.ImportFrom):
+                    taken.update([alias.name for alias in node.names])
+                if isinstance(node, ast.ClassDef):
+                    taken.add(node.name)
+                if isinstance(node, ast.FunctionDef):
+                    self.assertNotIn(node.name, dir(builtins), name)
+            for node in ast.walk(tree):
+                if isinstance(node, ast.FunctionDef):
+                    self.assertFalse(set(bound_in(node)) & taken, (name, node.name))
+
+    def test_values_that_are_iterated(self):
+        for name, tree in trees():
+            for node in ast.walk(tree):
+                self.assertNotIsInstance(node, (ast.GeneratorExp, ast.Lambda, ast.NamedExpr), name)
+                if isinstance(node, ast.Call) and isinstance(node.func, ast.Name):
+                    if node.func.id == "reversed":
+                        self.assertIn(ast.unparse(node.args[0]).split("(")[0], ("list", "tuple", "sorted", "range"), name)
+                    if node.func.id in dir(builtins):
+                        self.assertFalse([part.arg for part in node.keywords if part.arg not in ("key", "start")], name)
+            allowed = sets_in_place(tree)
+            self.assertEqual([ast.unparse(node) for node in ast.walk(tree) if is_set(node) and node not in allowed], [])
+
+    def test_is_and_handlers(self):
+        for name, tree in trees():
+            own = [alias.name for node in tree.body if isinstance(node, ast.ImportFrom) for alias in node.names]
+            for node in ast.walk(tree):
+                if isinstance(node, ast.Compare) and any([isinstance(sign, (ast.Is, ast.IsNot)) for sign in node.ops]):
+                    self.assertIsInstance(node.comparators[0], ast.Constant, name)
+                if isinstance(node, ast.ExceptHandler):
+                    kinds = node.type.elts if isinstance(node.type, ast.Tuple) else [node.type]
+                    self.assertFalse([kind.id for kind in kinds if kind.id not in own], name)
+
+    def test_generators(self):
+        known = functions(trees())
+        for name in known:
+            if any([is_generator(part) for part in known[name]]):
+                self.assertEqual(len(known[name]), 1, name)
+        for name, tree in trees():
+            for node in ast.walk(tree):
+                if isinstance(node, (ast.Try, ast.With)):
+                    self.assertFalse([part for part in ast.walk(node) if isinstance(part, ast.Yield)], name)
+
+    def test_the_end_of_a_block(self):
+        rows = [ast.unparse(row) for part in functions(trees())["__exit__"] for row in part.body]
+        self.assertEqual(rows, ["house = self._house", "house.state = self._kept"])
+
+    def test_properties_are_not_stored(self):
+        properties = {part.name for parts in functions(trees()).values() for part in parts if is_property(part)}
+        for name, tree in trees():
+            stored = {node.attr for node in ast.walk(tree)
+                      if isinstance(node, ast.Attribute) and isinstance(node.ctx, ast.Store)}
+            self.assertFalse(properties & stored, name)
 
     def test_no_name_is_a_method_and_a_property_or_an_attribute(self):
         for name, tree in trees():
