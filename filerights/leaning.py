@@ -28,25 +28,30 @@ class Leaning:
         if word in ("file", "folder"):
             self._add_place(house, user, parts[0])
         elif word != "umask":
-            self.add_way(house, user, parts[0])
+            self._add_way(house, user, parts[0])
         if word in ("read", "write"):
-            self.add_letters(house, user, parts[0], word[0])
+            self._add_letters(house, user, parts[0], word[0])
         if word in ("move", "remove"):
             self._add_take(house, user, parts[0])
         if word == "move":
             path, to = parts
             self._add_place(house, user, to)
             if house[path].kind == "folder" and above(path) != above(to):
-                self.add_letters(house, user, path, "w")
+                self._add_letters(house, user, path, "w")
 
-    def add_way(self, house, user, path):
+    def _add_way(self, house, user, path):
         """Put in the letters that a user needs to reach a node."""
         folder = above(path)
         if folder is not None:
-            self.add_way(house, user, folder)
-            self.add_letters(house, user, folder, "x")
+            self._add_way(house, user, folder)
+            self._add_letters(house, user, folder, "x")
 
-    def add_letters(self, house, user, path, letters):
+    def add_reading(self, house, user, path):
+        """Put in the letters that a user needs to read a file."""
+        self._add_way(house, user, path)
+        self._add_letters(house, user, path, "r")
+
+    def _add_letters(self, house, user, path, letters):
         """Put in letters that a user is granted at a node, all together."""
         node = house[path]
         if not self._is_as_before(node):
@@ -75,13 +80,13 @@ class Leaning:
     def _add_place(self, house, user, path):
         """Put in what a user needs to place a node at a path."""
         folder = above(path)
-        self.add_way(house, user, folder)
-        self.add_letters(house, user, folder, "wx")
+        self._add_way(house, user, folder)
+        self._add_letters(house, user, folder, "wx")
 
     def _add_take(self, house, user, path):
         """Put in what a user needs to take a node from the folder above it."""
         folder = house[above(path)]
-        self.add_letters(house, user, above(path), "wx")
+        self._add_letters(house, user, above(path), "wx")
         if user in (house[path].owner, folder.owner) or folder.number not in self._places:
             return
         place, present = self._places[folder.number]

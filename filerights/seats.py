@@ -146,6 +146,12 @@ class History:
         """Return the list of the deeds that are kept, in order."""
         return [deed for before, deed in self._rows]
 
+    def copied(self):
+        """Return a history of the same house that keeps the same deeds."""
+        history = History(self._house)
+        history._rows = list(self._rows)
+        return history
+
     def __len__(self):
         return len(self._rows)
 

@@ -2,6 +2,8 @@
 
 import random
 
+from filerights.deeds import do
+from filerights.errors import MissingError, RefusedError, RightsError
 from filerights.house import House
 from filerights.lists import AccessList
 from filerights.people import People
@@ -86,3 +88,23 @@ def paths_about(source, house):
 
 def numbers_of(house):
     return {path: node.number for path, node in house.walk()}
+
+
+def drawn_deeds(source, house, free, count):
+    """Return a row of deeds of free users that is not refused, drawn one by one."""
+    behind, row = house.copied(), []
+    for _ in range(count):
+        user, paths = source.choice(free), ["/", "/tmp", *behind.paths()]
+        path, beside = source.choice(paths), source.choice(paths).rstrip("/") + "/" + source.choice("pqrsz")
+        deed = source.choice([
+            (user, "read", path), (user, "write", path, "x"), (user, "file", beside, "666"), (user, "folder", beside, "777"),
+            (user, "move", path, beside), (user, "move", path, beside), (user, "remove", path), (user, "allow", path, AccessList.everything()),
+            (user, "allow", path, drawn_access(source)), (user, "mark", path, False, False), (user, "umask", "000"),
+            (user, "default", path, AccessList.everything()), (user, "give", path, source.choice("ghi")),
+        ])
+        try:
+            do(behind, deed)
+        except (RightsError, MissingError, RefusedError):
+            continue
+        row.append(deed)
+    return row

@@ -9,19 +9,25 @@ from filerights.house import House, lacking, letters_at, may, who_may
 from filerights.judge import Judge
 from filerights.lists import AccessList, is_digits, without_letters
 from filerights.makers import Start, alike, is_script, made, without_effect
+from filerights.mends import changed, check_mend, fewest_mend, is_change
 from filerights.people import People
 from filerights.rights import Rights, as_rights, is_rights
 from filerights.seats import History, Seat, Trial, tried
+from filerights.sessions import Session
+from filerights.teams import check_teams, greatest_harmless, more_by, smallest_teams
+from filerights.texts import deeds_text, goal_text, house_text, read_deeds, read_goal, read_house
 from filerights.words import above, is_below, is_integer, is_list, is_name, is_path, joined, parse_integer
 from filerights.words import parts_of, split_words
 from helpers import shown
 
 NAMES = {
     tool.__name__: tool for tool in (
-        AccessList, Future, History, House, Judge, People, Rights, Seat, Start, Trial, above, alike, as_rights, check, decide,
-        do, is_below, is_closed, is_deed, is_digits, is_goal, is_integer, is_list, is_met, is_name, is_path, is_rights,
-        is_script, joined, lacking, letters_at, made, may, parse_integer, parts_of, run, split_words, support, tried,
-        who_may, without_effect, without_letters,
+        AccessList, Future, History, House, Judge, People, Rights, Seat, Session, Start, Trial, above, alike, as_rights,
+        changed, check, check_mend, check_teams, decide, deeds_text, do, fewest_mend, goal_text, greatest_harmless,
+        house_text, is_below, is_change, is_closed, is_deed, is_digits, is_goal, is_integer, is_list, is_met, is_name,
+        is_path, is_rights, is_script, joined, lacking, letters_at, made, may, more_by, parse_integer, parts_of,
+        read_deeds, read_goal, read_house, run, smallest_teams, split_words, support, tried, who_may, without_effect,
+        without_letters,
     )
 }
 
@@ -127,6 +133,49 @@ POINT_96 = """
     [('gone', '/lab/note'), ('lost', '/lab/note'), ('made', '/lab/note'), ('led', 'bob', '/lab/note')]
 """
 
+POINT_103 = """
+    >>> house = House(People({"ann": ["staff"], "bob": ["guests"], "cal": ["guests"]}))
+    >>> house.add("/lab", "folder", group="staff", access=AccessList.plain("770"))
+    >>> house.add("/lab/box", "folder", group="staff", access=AccessList.plain("727"))
+    >>> house.add("/lab/box/note", "file", group="guests", access=AccessList.plain("640"))
+    >>> [smallest_teams(house, ("read", "/lab/box/note")), greatest_harmless(house, ("read", "/lab/box/note"))]
+    [[['ann', 'bob'], ['ann', 'cal']], [['ann'], ['bob', 'cal']]]
+    >>> [smallest_teams(house, ("led", "ann", "/lab/box/note")), more_by(house, ["ann"], "bob")[:2]]
+    [[], [('lost', '/lab/box'), ('read', '/lab/box/note')]]
+"""
+
+POINT_113 = """
+    >>> house = House(People({"ann": ["staff"], "bob": ["staff"]}))
+    >>> house.add("/lab", "folder", group="staff", access=AccessList.plain("770"))
+    >>> house.add("/lab/note", "file", owner="bob", group="staff", access=AccessList.plain("640"))
+    >>> never, keeps = [(["ann"], ("led", "bob", "/lab/note"))], [("ann", "/lab", "w"), ("bob", "/lab/note", "rw")]
+    >>> word, changes, tree = fewest_mend(house, never, keeps)
+    >>> [word, changes, tree[0], check_mend(house, never, keeps, (word, changes, tree))]
+    ['mend', [('sticky', '/lab')], 0, True]
+    >>> [fewest_mend(house, [(["ann"], ("made", "/lab/new"))], keeps, most=1)[:2], len(fewest_mend(house, [], []))]
+    [('none', 1), 3]
+"""
+
+POINT_123 = r"""
+    >>> house = House(People({"bob": ["staff"], "ann": ["chess", "staff"]}))
+    >>> house.add("/lab", "folder", owner="ann", group="staff", access=AccessList("rwx", "rx", "", users={"bob": "r"}))
+    >>> house.mark("/lab", passes=True)
+    >>> house_text(house).split("\n")
+    ['user ann 022 chess staff', 'user bob 022 staff', 'folder /lab ann staff u::rwx,u:bob:r--,g::r-x,m::r-x,o::--- -p none']
+    >>> [read_house(house_text(house)) == house, deeds_text([("ann", "write", "/a", "x y"), ("ann", "mark", "/lab", True, False)])]
+    [True, 'ann write /a =x y\nann mark /lab s-']
+    >>> [read_goal("led bob /lab/a"), read_deeds("ann move /a /b")]
+    [('led', 'bob', '/lab/a'), [('ann', 'move', '/a', '/b')]]
+"""
+
+POINT_132 = """
+    >>> session = Session()
+    >>> session.execute_all(["begin ann=staff bob=guests", "put folder /lab ann staff 750", "do ann file /lab/plan 666", "who /lab/plan r"])
+    ['done', 'done', 'done', 'ann']
+    >>> session.execute_all(["ever bob read /lab/plan", "teams read /lab/plan", "undo", "tree", "may bob /lab -"])
+    ['never', 'ann', 'ann file /lab/plan 666', '/lab', 'yes']
+"""
+
 
 class ExamplesTest(unittest.TestCase):
     def check(self, text, count):
@@ -167,6 +216,18 @@ class ExamplesTest(unittest.TestCase):
 
     def test_point_96(self):
         self.check(POINT_96, 7)
+
+    def test_point_103(self):
+        self.check(POINT_103, 6)
+
+    def test_point_113(self):
+        self.check(POINT_113, 7)
+
+    def test_point_123(self):
+        self.check(POINT_123, 6)
+
+    def test_point_132(self):
+        self.check(POINT_132, 3)
 
     def test_the_runner_sees_what_differs(self):
         rows = shown(">>> 1 + 1\n3\n>>> above('a')\nraises InvalidPath('a')", dict(NAMES))

@@ -13,7 +13,7 @@ from filerights.lists import AccessList
 from filerights.people import People
 from filerights.words import above, is_path, parts_of
 from helpers import any_values, raised
-from houses import PATH_WORDS, USER_WORDS, drawn_access, drawn_free, drawn_house, goals_of, numbers_of, paths_about
+from houses import PATH_WORDS, USER_WORDS, drawn_deeds, drawn_free, drawn_house, goals_of, numbers_of, paths_about
 from houses import seed_of
 
 PEOPLE = People({"ann": ["staff"], "bob": ["staff"], "cal": ["guests"]})
@@ -124,26 +124,6 @@ def drawn_cases(text, count, most=7, users=4):
         house = drawn_house(source, most, users, deep=at % 4 > 0)
         free = drawn_free(source, house)
         yield source, house, free, goals_of(house, free, paths_about(source, house))
-
-
-def drawn_deeds(source, house, free, count):
-    """Return a row of deeds of free users that is not refused, drawn one by one."""
-    behind, row = house.copied(), []
-    for _ in range(count):
-        user, paths = source.choice(free), ["/", "/tmp", *behind.paths()]
-        path, beside = source.choice(paths), source.choice(paths).rstrip("/") + "/" + source.choice("pqrsz")
-        deed = source.choice([
-            (user, "read", path), (user, "write", path, "x"), (user, "file", beside, "666"), (user, "folder", beside, "777"),
-            (user, "move", path, beside), (user, "move", path, beside), (user, "remove", path), (user, "allow", path, ALL),
-            (user, "allow", path, drawn_access(source)), (user, "mark", path, False, False), (user, "umask", "000"),
-            (user, "default", path, ALL), (user, "give", path, source.choice("ghi")),
-        ])
-        try:
-            do(behind, deed)
-        except (RightsError, MissingError, RefusedError):
-            continue
-        row.append(deed)
-    return row
 
 
 class IsGoalTest(unittest.TestCase):

@@ -27,6 +27,18 @@ FUNCTIONS = {
         "is_goal": "(house, free, goal)", "is_met": "(house, free, goal, deeds)", "decide": "(house, free, goal)",
         "check": "(house, free, goal, answer)", "support": "(house, deeds)",
     },
+    "teams": {
+        "smallest_teams": "(house, goal)", "greatest_harmless": "(house, goal)",
+        "check_teams": "(house, goal, smallest, greatest)", "more_by": "(house, free, user)",
+    },
+    "mends": {
+        "is_change": "(house, value)", "changed": "(house, changes)",
+        "fewest_mend": "(house, never, keeps, *, most=2)", "check_mend": "(house, never, keeps, answer, *, most=2)",
+    },
+    "texts": {
+        "house_text": "(house)", "read_house": "(text)", "deeds_text": "(deeds)", "read_deeds": "(text)",
+        "goal_text": "(goal)", "read_goal": "(text)",
+    },
 }
 
 CLASSES = {
@@ -77,6 +89,9 @@ CLASSES = {
         "": "(house, free)", "reaches": "(self, user, path)", "can": "(self, user, path, letters)",
         "takes": "(self, user, path)", "opened": "(self)", "away": "(self)", "table": "(self)", "is_so": "(self, goal)",
         "each_goal": "(self)",
+    },
+    ("sessions", "Session"): {
+        "": "()", "house": "(self)", "execute": "(self, line)", "execute_all": "(self, lines)", "log": "(self)",
     },
 }
 

@@ -22,7 +22,7 @@ METHODS = set(
     "setdefault split splitlines startswith strip update upper values zfill bit_length isascii add discard".split()
 )
 # A function that is taken from a table has a name first, and so has an object that is called.
-CALLED_VARIABLES = {"cls", "heappush", "heappop", "defaultdict", "action", "judge"}
+CALLED_VARIABLES = {"cls", "heappush", "heappop", "defaultdict", "action", "reader", "judge"}
 LIBRARY = {"heapq", "math", "itertools", "collections"}
 BARRED = set("type typing enum dataclass namedtuple register elements open input law eval exec global async".split())
 
