@@ -5,7 +5,7 @@ from filerights.errors import MissingError, NotEmpty, NotFile, NotFolder, NotMem
 from filerights.errors import RightsError, Taken, UnknownUser
 from filerights.house import GROUND, check_house, is_granted, lacking
 from filerights.lists import AccessList, is_digits, new_list
-from filerights.words import above, is_below, is_list, is_name, is_path, is_user_name
+from filerights.words import folder_of, is_below, is_list, is_name, is_path, is_user_name
 
 PARTS = {
     "read": ("path",),
@@ -103,7 +103,7 @@ def _ask_take(house, user, path):
     """Refuse what takes a node from the folder above it, if the user cannot."""
     _ask_not_ground(path)
     _ask_way(house, user, path)
-    folder = above(path)
+    folder = folder_of(path)
     _ask(house, user, folder, "wx")
     if house[folder].sticky and user not in (house[path].owner, house[folder].owner):
         raise Held(path)
@@ -111,7 +111,7 @@ def _ask_take(house, user, path):
 
 def _ask_place(house, user, path):
     """Refuse what places a node at a path, if the user cannot."""
-    folder = above(path)
+    folder = folder_of(path)
     if folder is None:
         raise Taken(path)
     _ask_way(house, user, folder)
@@ -137,7 +137,7 @@ def _make_file(house, user, path, digits):
 
 def _make_folder(house, user, path, digits):
     _make(house, user, path, "folder", digits)
-    folder = house[above(path)]
+    folder = house[folder_of(path)]
     house.mark(path, passes=folder.passes)
     house.set_default(path, folder.default)
 
@@ -145,7 +145,7 @@ def _make_folder(house, user, path, digits):
 def _make(house, user, path, kind, digits):
     """Make a node of the user, with the group and the list that the folder above and the umask give it."""
     _ask_place(house, user, path)
-    folder = house[above(path)]
+    folder = house[folder_of(path)]
     group = folder.group if folder.passes else house.people.first_group(user)
     access = new_list(folder.default, digits, house.umask_of(user))
     house.add(path, kind, owner=user, group=group, access=access)
@@ -157,7 +157,7 @@ def _move(house, user, path, to):
         raise Inside(to)
     _ask_place(house, user, to)
     # A folder tells the way to the one above it, so it is changed when that is another one.
-    if house[path].kind == "folder" and above(path) != above(to):
+    if house[path].kind == "folder" and folder_of(path) != folder_of(to):
         _ask(house, user, path, "w")
     house.shift(path, to)
 

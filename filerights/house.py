@@ -1,13 +1,13 @@
 """Houses: trees of folders and files that the administrator changes, and who reaches what in them."""
 
 from filerights.errors import Absent, Ground, Inside, InvalidContent, InvalidDigits, InvalidHouse, InvalidList
-from filerights.errors import InvalidNode, InvalidPath, InvalidPeople, InvalidRights, NotFile, NotFolder, Taken
+from filerights.errors import InvalidNode, InvalidPath, InvalidPeople, NotFile, NotFolder, Taken
 from filerights.errors import UnknownGroup, UnknownUser
-from filerights.judge import Judge
 from filerights.lists import AccessList, is_digits
 from filerights.people import People, is_owner, is_owner_group
-from filerights.rights import is_rights
-from filerights.words import above, is_below, is_path, joined, parts_of
+from filerights.rights import Rights, as_digit
+from filerights.states import State
+from filerights.words import folder_of, is_below, is_path, joined, parts_of
 
 GROUND = ("/", "/tmp")
 FIRST_UMASK = "022"
@@ -18,10 +18,12 @@ FILE_DIGITS = "644"
 class Node:
     """A folder or a file as it is when it is asked for; it never changes.
 
-    The facts are a dict with all that its properties tell, other than the number.
+    The facts are a dict with all that its properties tell, other than the number. What a state of the house found out
+    about it is kept in granting.
     """
 
     def __init__(self, number, facts):
+        self.granting = {}
         self._number = number
         self._facts = dict(facts)
 
@@ -84,19 +86,17 @@ class Node:
 class House:
     """The nodes at their paths and the umasks of the users, which the administrator changes.
 
-    The state is a tuple of the number of the next new node, the umasks as tuples (user, digits), and the nodes as
-    tuples (path, Node) in the order of the paths. A change puts a new tuple in its place, so a state that is kept
-    stays what it is.
+    A change puts another state in the place of the present one, so a state that is kept stays what it is.
     """
 
     def __init__(self, people):
         if not isinstance(people, People):
             raise InvalidPeople(people)
         self._people = people
-        umasks = tuple([(user, FIRST_UMASK) for user in people.users()])
+        umasks = {user: FIRST_UMASK for user in people.users()}
         top = _new_node(0, "folder", "root", "root", AccessList.plain("555"))
         shared = _new_node(1, "folder", "root", "root", AccessList.everything()).with_facts({"sticky": True})
-        self.state = (len(GROUND), umasks, (("/", top), ("/tmp", shared)))
+        self.state = State(people, len(GROUND), umasks, {"/": top, "/tmp": shared})
 
     @property
     def people(self):
@@ -105,7 +105,7 @@ class House:
 
     def __getitem__(self, path):
         self._check_there(path)
-        return self._nodes()[path]
+        return self.state.nodes[path]
 
     def __setitem__(self, path, access):
         self._check_change(path)
@@ -117,33 +117,34 @@ class House:
         raise TypeError("a house is walked, or asked for its paths")
 
     def __contains__(self, value):
-        return isinstance(value, str) and value in self._nodes()
+        return isinstance(value, str) and value in self.state.nodes
 
     def __len__(self):
         return len(self.paths())
 
     def __eq__(self, other):
-        # Numbers do not count: neither those of the nodes nor the next one, which stands first in the state.
-        return isinstance(other, House) and self._people == other._people and self.state[1:] == other.state[1:]
+        if not isinstance(other, House) or self._people != other._people:
+            return False
+        # Numbers do not count: neither those of the nodes nor the next one.
+        return self.state.umasks == other.state.umasks and self.state.nodes == other.state.nodes
 
     def __repr__(self):
         return f"House({self.paths()})"
 
     def paths(self):
         """Return the list of the paths of all nodes besides the ground."""
-        return [path for path in self._nodes() if path not in GROUND]
+        return sorted([path for path in self.state.nodes if path not in GROUND])
 
     def names_in(self, path):
         """Return the list of the names of the entries of a folder."""
         if self[path].kind != "folder":
             raise NotFolder(path)
-        places = [place for place in self._within(path) if place != path]
-        return [parts_of(place)[-1] for place in places if above(place) == path]
+        return [parts_of(place)[-1] for place in self._within(path) if folder_of(place) == path]
 
     def walk(self, path="/"):
         """Yield (path, Node) for the node at a path and for all nodes below it, as they are at the first step."""
         self._check_there(path)
-        nodes = self._nodes()
+        nodes = self.state.nodes
         for place in self._within(path):
             yield place, nodes[place]
 
@@ -170,19 +171,16 @@ class House:
             raise InvalidContent(content)
         if access is None:
             access = AccessList.plain(FOLDER_DIGITS if kind == "folder" else FILE_DIGITS)
-        number, umasks, _ = self.state
-        nodes = self._nodes()
-        nodes[path] = _new_node(number, kind, owner, group, access).with_facts({"content": content})
-        self._keep(number + 1, umasks, nodes)
+        node = _new_node(self.state.following, kind, owner, group, access).with_facts({"content": content})
+        self.state = self.state.with_new(path, node)
 
     def cut(self, path):
         """Take a node out, with all nodes below it."""
         self._check_change(path)
-        number, umasks, _ = self.state
-        nodes = self._nodes()
+        nodes = dict(self.state.nodes)
         for place in self._within(path):
             del nodes[place]
-        self._keep(number, umasks, nodes)
+        self.state = self.state.with_nodes(nodes)
 
     def shift(self, path, to):
         """Move a node, with all nodes below it, to another path."""
@@ -193,11 +191,10 @@ class House:
         if is_below(to, path):
             raise Inside(to)
         self._check_free(to)
-        number, umasks, _ = self.state
-        nodes = self._nodes()
+        nodes = dict(self.state.nodes)
         for place in self._within(path):
             nodes[to + place[len(path):]] = nodes.pop(place)
-        self._keep(number, umasks, nodes)
+        self.state = self.state.with_nodes(nodes)
 
     def give(self, path, *, owner=None, group=None):
         """Give a node another owner, another group, or both."""
@@ -240,41 +237,29 @@ class House:
             raise UnknownUser(user)
         if not is_digits(digits):
             raise InvalidDigits(digits)
-        number, umasks, nodes = self.state
-        changed = [(name, digits if name == user else umask) for name, umask in umasks]
-        self.state = (number, tuple(changed), nodes)
+        self.state = self.state.with_umask(user, digits)
 
     def umask_of(self, user):
         """Return the umask of a user."""
         if user not in self._people:
             raise UnknownUser(user)
-        return dict(self.state[1])[user]
-
-    def _nodes(self):
-        """Return a new dict from the paths, in their order, to the nodes."""
-        return dict(self.state[2])
+        return self.state.umasks[user]
 
     def _within(self, path):
-        """Return the list of the paths of the node at a path and of all nodes below it."""
+        """Return the ascending list of the paths of the node at a path and of all nodes below it."""
         start = path if path == "/" else path + "/"
-        return [place for place in self._nodes() if place == path or place.startswith(start)]
-
-    def _keep(self, number, umasks, nodes):
-        """Make these the state; nodes is a dict from the paths."""
-        self.state = (number, umasks, tuple([(path, nodes[path]) for path in sorted(nodes)]))
+        return sorted([place for place in self.state.nodes if place == path or place.startswith(start)])
 
     def _renew(self, path, facts):
         """Give the node at a path other facts."""
-        number, umasks, _ = self.state
-        nodes = self._nodes()
-        nodes[path] = nodes[path].with_facts(facts)
-        self._keep(number, umasks, nodes)
+        nodes = self.state.nodes
+        self.state = self.state.with_nodes({**nodes, path: nodes[path].with_facts(facts)})
 
     def _check_there(self, path):
         """Raise an error if there is no node at a path."""
-        if not is_path(path):
-            raise InvalidPath(path)
         if path not in self:
+            if not is_path(path):
+                raise InvalidPath(path)
             raise Absent(path)
 
     def _check_change(self, path):
@@ -293,7 +278,7 @@ class House:
         """Raise an error if no node can be put at a path."""
         if path in self:
             raise Taken(path)
-        folder = above(path)
+        folder = folder_of(path)
         if self[folder].kind != "folder":
             raise NotFolder(folder)
 
@@ -308,6 +293,8 @@ class House:
 def lacking(house, user, path):
     """Return None if a user reaches a node at a path, or else where their way ends, and why."""
     _check_asked(house, user)
+    if path in house and house.state.reaches(user, path):
+        return None
     place = "/"
     for name in parts_of(path):
         if house[place].kind == "file":
@@ -323,31 +310,35 @@ def lacking(house, user, path):
 def may(house, user, path, letters):
     """Return True if a user reaches the node at a path and is granted the letters there, all together."""
     _check_asked(house, user)
-    _check_letters(path, letters)
-    return lacking(house, user, path) is None and is_granted(house, user, path, letters)
+    digit = _asked_digit(house, path, letters)
+    return path in house.state.nodes and _may(house.state, user, path, digit)
 
 
 def who_may(house, path, letters):
     """Return the list of the users who reach the node at a path and are granted the letters there."""
     check_house(house)
-    _check_letters(path, letters)
-    return [user for user in house.people.users() if may(house, user, path, letters)]
+    digit = _asked_digit(house, path, letters)
+    if path not in house.state.nodes:
+        return []
+    return [user for user in house.people.users() if _may(house.state, user, path, digit)]
 
 
 def letters_at(house, user, path):
     """Return the rights of all letters that a user is granted one by one at a node, or None if they do not reach it."""
     if lacking(house, user, path) is not None:
         return None
-    node = house[path]
-    judge = Judge(house.people)
-    return judge.letters_of(user, node.owner, node.group, node.access)
+    parts = [Rights.from_digit(digit) for digit in house.state.digits_for(user, path)]
+    return Rights.of(*parts)
 
 
 def is_granted(house, user, path, letters):
     """Return True if a user is granted letters at a node, whether they reach it or not."""
-    node = house[path]
-    judge = Judge(house.people)
-    return judge(user, node.owner, node.group, node.access, letters)
+    return house.state.grants(user, path, as_digit(letters))
+
+
+def _may(state, user, path, digit):
+    """Return True if a user reaches a node that is there and is granted the letters of a digit there."""
+    return state.reaches(user, path) and state.grants(user, path, digit)
 
 
 def _new_node(number, kind, owner, group, access):
@@ -375,9 +366,8 @@ def _check_asked(house, user):
         raise UnknownUser(user)
 
 
-def _check_letters(path, letters):
-    """Raise an error if these are not a path and rights."""
-    if not is_path(path):
+def _asked_digit(house, path, letters):
+    """Return the digit of letters that are asked at a path; raise an error if these are not a path and rights."""
+    if path not in house and not is_path(path):
         raise InvalidPath(path)
-    if not is_rights(letters):
-        raise InvalidRights(letters)
+    return as_digit(letters)

@@ -4,7 +4,7 @@ from filerights.deeds import do
 from filerights.errors import DeedFailed, MissingError, RefusedError, RightsError
 from filerights.house import GROUND
 from filerights.judge import Judge
-from filerights.words import above
+from filerights.words import folder_of
 
 MASKED_KINDS = ("user", "group", "named")
 LETTERS = "rwx"
@@ -36,12 +36,12 @@ class Leaning:
         if word == "move":
             path, to = parts
             self._add_place(house, user, to)
-            if house[path].kind == "folder" and above(path) != above(to):
+            if house[path].kind == "folder" and folder_of(path) != folder_of(to):
                 self._add_letters(house, user, path, "w")
 
     def _add_way(self, house, user, path):
         """Put in the letters that a user needs to reach a node."""
-        folder = above(path)
+        folder = folder_of(path)
         if folder is not None:
             self._add_way(house, user, folder)
             self._add_letters(house, user, folder, "x")
@@ -79,14 +79,14 @@ class Leaning:
 
     def _add_place(self, house, user, path):
         """Put in what a user needs to place a node at a path."""
-        folder = above(path)
+        folder = folder_of(path)
         self._add_way(house, user, folder)
         self._add_letters(house, user, folder, "wx")
 
     def _add_take(self, house, user, path):
         """Put in what a user needs to take a node from the folder above it."""
-        folder = house[above(path)]
-        self._add_letters(house, user, above(path), "wx")
+        folder = house[folder_of(path)]
+        self._add_letters(house, user, folder_of(path), "wx")
         if user in (house[path].owner, folder.owner) or folder.number not in self._places:
             return
         place, present = self._places[folder.number]

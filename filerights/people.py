@@ -17,9 +17,9 @@ class People:
             if not _are_groups(members[user]):
                 raise InvalidPeople(members[user])
         self._held = {user: tuple(members[user]) for user in sorted(members)}
-        count = len(self.groups())
-        if count > MOST_GROUPS:
-            raise TooMany(count)
+        self._groups = sorted({group for user in self._held for group in self._held[user]})
+        if len(self._groups) > MOST_GROUPS:
+            raise TooMany(len(self._groups))
 
     def users(self):
         """Return the list of all users."""
@@ -27,7 +27,7 @@ class People:
 
     def groups(self):
         """Return the list of all groups."""
-        return sorted({group for user in self._held for group in self._held[user]})
+        return list(self._groups)
 
     def groups_of(self, user):
         """Return the list of the groups of a user, in the order in which they were given."""
@@ -41,7 +41,7 @@ class People:
 
     def members(self, group):
         """Return the list of the users that have a group."""
-        if group not in self.groups():
+        if group not in self._groups:
             raise UnknownGroup(group)
         return [user for user in self._held if group in self._held[user]]
 

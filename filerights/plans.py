@@ -2,7 +2,7 @@
 
 from filerights.lists import AccessList
 from filerights.tables import ways
-from filerights.words import above, joined, parts_of
+from filerights.words import folder_of, joined, parts_of
 
 ALPHABET = "abcdefghijklmnopqrstuvwxyz"
 
@@ -61,7 +61,7 @@ class Plan:
 
     def _bring(self, user, path):
         """Let a free user reach a node to which they come."""
-        folder = above(path)
+        folder = folder_of(path)
         if path in self._moved or folder in (None, "/", "/tmp"):
             return
         if self._table.walks(user, path):
@@ -88,7 +88,7 @@ class Plan:
 
     def _hold(self, user, path):
         """Let a free user who takes a node do so."""
-        folder = above(path)
+        folder = folder_of(path)
         self._bring(user, folder)
         self._grant(user, folder, "wx")
         if self._table.is_held(user, path):
@@ -131,7 +131,7 @@ class Plan:
         """Take the first loose node of a way from its path, and return the user who does so."""
         user = self._table.takers(path)[0]
         self._hold(user, path)
-        self._act(user, "move", path, joined(above(path), self._new_name()))
+        self._act(user, "move", path, joined(folder_of(path), self._new_name()))
         return user
 
     def _use(self, word, path):
@@ -157,7 +157,7 @@ class Plan:
     def _make(self, path):
         """Let a new file be put at a path, with new folders above it where some are missing."""
         place, word = self._table.place(path)
-        folder = above(place)
+        folder = folder_of(place)
         if word == "loose":
             user = self._rename(place)
         else:

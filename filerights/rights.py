@@ -3,8 +3,14 @@
 from filerights.errors import InvalidInteger, InvalidRights
 from filerights.words import is_integer
 
-LETTER_DIGITS = {"r": 4, "w": 2, "x": 1}
+LETTERS = "rwx"
 ALL_DIGIT = 7
+# The digit of each string of letters, and the letters of each digit: rights are made too often to add them up.
+DIGITS = {
+    "": 0, "x": 1, "w": 2, "wx": 3, "xw": 3, "r": 4, "rx": 5, "xr": 5, "rw": 6, "wr": 6,
+    "rwx": 7, "rxw": 7, "wrx": 7, "wxr": 7, "xrw": 7, "xwr": 7,
+}
+WORDS = ("", "x", "w", "wx", "r", "rx", "rw", "rwx")
 
 
 class Rights:
@@ -13,7 +19,7 @@ class Rights:
     def __init__(self, letters=""):
         if not _is_letters(letters):
             raise InvalidRights(letters)
-        self._digit = sum([LETTER_DIGITS[letter] for letter in letters])
+        self._digit = DIGITS[letters]
 
     @classmethod
     def of(cls, *parts):
@@ -28,7 +34,7 @@ class Rights:
         """Return the rights with a digit from 0 to 7."""
         if not is_integer(digit, 0, ALL_DIGIT):
             raise InvalidInteger(digit)
-        return cls(_letters_with(digit))
+        return cls(WORDS[digit])
 
     @property
     def digit(self):
@@ -37,7 +43,7 @@ class Rights:
 
     def listed(self):
         """Return the list of the letters, in their order."""
-        return list(_letters_with(self._digit))
+        return list(WORDS[self._digit])
 
     def covers(self, other):
         """Return True if these rights have all letters of the other ones."""
@@ -45,19 +51,19 @@ class Rights:
         return self._digit & digit == digit
 
     def __or__(self, other):
-        return Rights(_letters_with(self._digit | _digit_of(other)))
+        return Rights(WORDS[self._digit | _digit_of(other)])
 
     def __and__(self, other):
-        return Rights(_letters_with(self._digit & _digit_of(other)))
+        return Rights(WORDS[self._digit & _digit_of(other)])
 
     def __sub__(self, other):
-        return Rights(_letters_with(self._digit & ~_digit_of(other)))
+        return Rights(WORDS[self._digit & ~_digit_of(other)])
 
     def __xor__(self, other):
-        return Rights(_letters_with(self._digit ^ _digit_of(other)))
+        return Rights(WORDS[self._digit ^ _digit_of(other)])
 
     def __invert__(self):
-        return Rights(_letters_with(ALL_DIGIT - self._digit))
+        return Rights(WORDS[ALL_DIGIT - self._digit])
 
     def __eq__(self, other):
         return isinstance(other, Rights) and self._digit == other._digit
@@ -72,7 +78,7 @@ class Rights:
         return bool(self._digit)
 
     def __str__(self):
-        return "".join([letter if letter in self else "-" for letter in LETTER_DIGITS])
+        return "".join([letter if letter in self else "-" for letter in LETTERS])
 
     def __repr__(self):
         return f"Rights({str(self)})"
@@ -88,16 +94,18 @@ def as_rights(value):
     return value if isinstance(value, Rights) else Rights(value)
 
 
+def as_digit(value):
+    """Return the digit of the rights that a Rights object or a string of letters stands for."""
+    if isinstance(value, Rights):
+        return value.digit
+    if not _is_letters(value):
+        raise InvalidRights(value)
+    return DIGITS[value]
+
+
 def _is_letters(value):
     """Return True if any value is a string that contains each letter at most once, and nothing else."""
-    if not isinstance(value, str):
-        return False
-    return len(value) == len(set(value)) and all([letter in LETTER_DIGITS for letter in value])
-
-
-def _letters_with(digit):
-    """Return the string of the letters that a digit stands for, in their order."""
-    return "".join([letter for letter in LETTER_DIGITS if digit & LETTER_DIGITS[letter]])
+    return isinstance(value, str) and value in DIGITS
 
 
 def _digit_of(value):

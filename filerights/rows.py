@@ -7,23 +7,29 @@ from filerights.house import may
 
 def meets(house, goal, deeds):
     """Return True if a list of deeds, carried out in a copy of a house, meets a goal."""
-    behind = house.copied()
-    touched = _carried_out(behind, deeds)
-    return touched is not None and _is_met(house, behind, touched, goal)
+    return _meets(house, house.copied(), goal, deeds)
 
 
 def shortened(house, goal, deeds):
     """Return a row that meets a goal without a deed that can be left out, from a row that meets it."""
     row = list(deeds)
+    behind = house.copied()
     count = len(row) + 1
     while len(row) < count:
         count = len(row)
         # The last ones first: a deed may only be there for the sake of later ones.
         for at in range(count - 1, -1, -1):
             rest = row[:at] + row[at + 1:]
-            if meets(house, goal, rest):
+            if _meets(house, behind, goal, rest):
                 row = rest
     return row
+
+
+def _meets(house, behind, goal, deeds):
+    """Return True if a list of deeds meets a goal; the copy of the house, in which they are carried out, may be any."""
+    behind.restore(house.state)
+    touched = _carried_out(behind, deeds)
+    return touched is not None and _is_met(house, behind, touched, goal)
 
 
 def _carried_out(house, deeds):

@@ -1,7 +1,7 @@
 """Tables: the nodes to which free users come, which they open and which go away, and what these say of goals."""
 
 from filerights.house import GROUND, is_granted, may
-from filerights.words import above, parts_of
+from filerights.words import folder_of, parts_of
 
 KINDS = ("reach", "opened", "away")
 
@@ -13,7 +13,7 @@ class Present:
         self.home = house.copied()
         self.actors = sorted(free)
         self.nodes = dict(self.home.walk())
-        self.folders = {path: above(path) for path in self.nodes}
+        self.folders = {path: folder_of(path) for path in self.nodes}
 
     def granted(self, user, path, letters):
         """Return True if a user is granted letters at a node, all together."""
@@ -162,7 +162,7 @@ class Table:
         if found is None:
             return False
         place, word = found
-        return word == "loose" or (word == "absent" and bool(self.users_with(above(place), "wx")))
+        return word == "loose" or (word == "absent" and bool(self.users_with(folder_of(place), "wx")))
 
     def _is_led(self, user, path):
         """Return True if a user can be led to read what is new at a path."""

@@ -32,7 +32,12 @@ def is_path(value):
     """Return True if any value is a path, of any length."""
     if not isinstance(value, str) or not value.startswith("/"):
         return False
-    return value == "/" or all([is_name(part) for part in value.split("/")[1:]])
+    if value == "/":
+        return True
+    letters = value.replace("/", "")
+    if not letters.isascii() or not letters.isalpha() or not letters.islower():
+        return False
+    return all([1 <= len(part) <= LONGEST_NAME for part in value.split("/")[1:]])
 
 
 def parts_of(path):
@@ -55,11 +60,16 @@ def joined(path, *names):
 
 def above(path):
     """Return the path without its last part, and None for the ground folder."""
-    parts = parts_of(path)
-    if not parts:
+    if not is_path(path):
+        raise InvalidPath(path)
+    return folder_of(path)
+
+
+def folder_of(path):
+    """Return the path without its last part, and None for the ground folder; it surely is a path."""
+    if path == "/":
         return None
-    shorter = parts[:-1]
-    return joined("/", *shorter)
+    return path[:path.rfind("/")] or "/"
 
 
 def is_below(path, other):
