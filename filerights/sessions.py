@@ -53,7 +53,7 @@ class Session:
         """Execute a list of commands, all or none, and return the list of their answers."""
         if not is_list(lines):
             raise InvalidDeeds(lines)
-        kept = self._kept()
+        kept = self._saved()
         answers = []
         for index, line in enumerate(lines):
             try:
@@ -74,7 +74,7 @@ class Session:
         if self._house is None:
             raise Absent("/")
 
-    def _kept(self):
+    def _saved(self):
         """Return what the session is now, as a tuple of the house, its state, its history and the lines."""
         if self._house is None:
             return (None, None, None, [])

@@ -261,6 +261,39 @@ class RulesTest(unittest.TestCase):
         rows = [ast.unparse(row) for part in functions(trees())["__exit__"] for row in part.body]
         self.assertEqual(rows, ["house = self._house", "house.state = self._kept"])
 
+    def test_no_name_is_an_attribute_and_a_method(self):
+        nodes = [node for _, tree in trees() for node in ast.walk(tree)]
+        stored = {node.attr for node in nodes if isinstance(node, ast.Attribute) and isinstance(node.ctx, ast.Store)}
+        methods = {part.name for node in nodes if isinstance(node, ast.ClassDef)
+                   for part in node.body if isinstance(part, ast.FunctionDef)}
+        self.assertFalse(stored & methods)
+
+    def test_no_two_files_import_from_each_other(self):
+        wanted = {}
+        for name, tree in trees():
+            modules = [node.module.split(".")[-1] for node in tree.body if isinstance(node, ast.ImportFrom)]
+            wanted[name[:-3]] = [module for module in modules if module not in LIBRARY]
+        while wanted:
+            free = [name for name in wanted if not set(wanted[name]) & set(wanted)]
+            self.assertTrue(free, wanted)
+            wanted = {name: wanted[name] for name in wanted if name not in free}
+
+    def test_what_an_import_names_is_defined_in_that_file(self):
+        defined = {}
+        for name, tree in trees():
+            bound = [node.name for node in tree.body if isinstance(node, (ast.FunctionDef, ast.ClassDef))]
+            bound += [node.targets[0].id for node in tree.body if isinstance(node, ast.Assign)]
+            self.assertEqual(len(bound), len(set(bound)), name)
+            defined[f"filerights.{name[:-3]}"] = bound
+        for name, tree in trees():
+            names = [alias.name for node in tree.body if isinstance(node, ast.ImportFrom) for alias in node.names]
+            self.assertEqual(len(names), len(set(names)), name)
+            used = {node.id for node in ast.walk(tree) if isinstance(node, ast.Name)}
+            self.assertEqual([word for word in names if word not in used], [], name)
+            for node in tree.body:
+                if isinstance(node, ast.ImportFrom) and node.module not in LIBRARY:
+                    self.assertTrue({alias.name for alias in node.names} <= set(defined[node.module]), name)
+
     def test_properties_are_not_stored(self):
         properties = {part.name for parts in functions(trees()).values() for part in parts if is_property(part)}
         for name, tree in trees():
