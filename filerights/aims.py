@@ -13,7 +13,7 @@ def is_aim(value):
     if not isinstance(value, tuple) or len(value) not in (2, 3):
         return False
     word, path = value[0], value[-1]
-    if not isinstance(word, str) or not is_path(path):
+    if not is_path(path):
         return False
     if len(value) == 2:
         return word in PATH_AIMS

@@ -100,7 +100,7 @@ def _is_pair(present, value):
     if not isinstance(value, tuple) or len(value) != 2:
         return False
     user, path = value
-    return isinstance(user, str) and user in present.actors and isinstance(path, str) and path in present.nodes
+    return user in present.actors and isinstance(path, str) and path in present.nodes
 
 
 def _is_place(present, value):

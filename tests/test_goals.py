@@ -309,6 +309,46 @@ class DecideTest(unittest.TestCase):
         house.set_umask("ann", "777")
         self.check_row(house, ["ann"], ("led", "cal", "/tmp/a/b"), decide(house, ["ann"], ("led", "cal", "/tmp/a/b"))[1])
 
+    def check_word(self, house, free, goal, wanted):
+        word, told = decide(house, free, goal)
+        self.assertEqual([word, Future(house, free).is_so(goal)], [wanted, wanted == "row"])
+        self.assertTrue(check(house, free, goal, (word, told)))
+        if word == "row":
+            self.check_row(house, free, goal, told)
+
+    def test_led_to_a_file_that_is_written(self):
+        house = House(PEOPLE)
+        house.add("/lab", "folder", access=AccessList("", "", "", users={"ann": "x"}))
+        house.add("/lab/note", "file", access=AccessList("", "", "", users={"ann": "w", "bob": "r"}))
+        goal = ("led", "bob", "/lab/note")
+        self.check_word(house, ["ann"], goal, "never")
+        house["/lab"] = house["/lab"].access.with_entry("user", "x", name="bob")
+        self.check_word(house, ["ann"], goal, "row")
+        house["/lab/note"] = house["/lab/note"].access.with_entry("user", "w", name="bob")
+        self.check_word(house, ["ann"], goal, "never")
+        # The owner of the file, who is free, lets them read it, and the owner of the folder lets them in.
+        house.give("/lab/note", owner="cal")
+        self.check_word(house, ["ann", "cal"], goal, "never")
+        house["/lab"] = AccessList("", "", "", users={"ann": "x", "cal": "x", "bob": "x"})
+        self.check_word(house, ["ann", "cal"], goal, "row")
+        self.check_word(house, ["cal"], goal, "row")
+        house["/lab"] = AccessList("", "", "", users={"ann": "x", "cal": "x"})
+        self.check_word(house, ["ann", "cal"], goal, "never")
+        house.give("/lab", owner="ann")
+        self.check_word(house, ["ann", "cal"], goal, "row")
+
+    def test_shut_by_the_owner_of_a_file_that_stays(self):
+        house = House(PEOPLE)
+        house.add("/plan", "file", owner="ann", access=AccessList.plain("644"))
+        house.add("/lab", "folder", access=AccessList.plain("755"))
+        house.add("/lab/note", "file", owner="ann", access=AccessList.plain("604"))
+        for path in ("/plan", "/lab/note"):
+            self.check_word(house, ["ann"], ("shut", "cal", path), "row")
+            self.check_word(house, ["bob"], ("shut", "cal", path), "never")
+            self.check_word(house, ["ann"], ("gone", path), "never")
+        house["/plan"] = AccessList.plain("640")
+        self.check_word(house, ["ann"], ("shut", "cal", "/plan"), "never")
+
     def test_new_values(self):
         house, goal = filled(), ("read", "/lab/note")
         first = decide(house=house, free=("ann",), goal=goal)

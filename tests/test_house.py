@@ -107,6 +107,28 @@ class NodeTest(unittest.TestCase):
         self.assertIsInstance(filled()["/lab"], Node)
 
 
+class StateTest(unittest.TestCase):
+    def test_equal(self):
+        house, other = filled(), filled()
+        self.assertTrue(house.state == other.state and not house.state != other.state)
+        kept = other.state
+        changes = [
+            lambda: other.set_umask("bob", "777"), lambda: other.add("/new", "file"), lambda: other.cut("/laba"),
+            lambda: other.mark("/lab", sticky=not other["/lab"].sticky), lambda: other.shift("/laba", "/labb"),
+        ]
+        for change in changes:
+            other.state = kept
+            change()
+            self.assertFalse(house.state == other.state)
+        other.state = kept
+        other.add("/new", "file")
+        other.cut("/new")
+        # The houses are equal, but the next number is another one.
+        self.assertTrue(house == other and house.state != other.state)
+        for value in any_values():
+            self.assertFalse(house.state == value)
+
+
 class HouseTest(unittest.TestCase):
     def test_people(self):
         house = House(people=PEOPLE)

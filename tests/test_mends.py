@@ -119,6 +119,14 @@ class ChangeTest(unittest.TestCase):
             self.assertEqual(changed(house, changes), after(house, changes))
             self.assertEqual(changed(changes=changes[::-1] + changes, house=house), after(house, changes))
         self.assertEqual(house, filled())
+        access = AccessList("rwx", "r", "", users={"ann": "rwx", "bob": "rw"}, groups={"guests": "rwx", "staff": "rx"})
+        house["/lab"] = access
+        changes = [("take", "/lab", "user", "bob", "w"), ("take", "/lab", "named", "staff", "x")]
+        self.assertEqual(str(changed(house, changes)["/lab"].access),
+                         "u::rwx,u:ann:rwx,u:bob:r--,g::r--,g:guests:rwx,g:staff:r--,m::rwx,o::---")
+        self.assertEqual(str(changed(house, [("take", "/lab", "mask", "", "r")])["/lab"].access),
+                         "u::rwx,u:ann:rwx,u:bob:rw-,g::r--,g:guests:rwx,g:staff:r-x,m::-wx,o::---")
+        house = filled()
         other = changed(house, [])
         other.cut("/lab")
         self.assertEqual(house, filled())
@@ -298,7 +306,8 @@ class CheckMendTest(unittest.TestCase):
         for spoilt in (cases[1:], cases + cases[:1], cases[:1] * len(cases), [], {}, [list(case) for case in cases],
                        [(change, 0) for change, _ in cases], [(change, None) for change, _ in cases],
                        [(change, True) for change, _ in cases], [(change, 1) for change, _ in cases],
-                       [(("sticky", "/lab/note"), rest) for _, rest in cases]):
+                       [(("sticky", "/lab/note"), rest) for _, rest in cases], [(*case, None) for case in cases],
+                       [case[:1] for case in cases], [() for _ in cases]):
             self.check(("none", 2, (index, deeds, spoilt)), False)
         for at, (change, rest) in enumerate(cases):
             if not isinstance(rest, int):

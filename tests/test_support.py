@@ -205,6 +205,8 @@ class SupportTest(unittest.TestCase):
         self.check([("ann", "folder", "/hall/a", "777"), ("ann", "file", "/hall/a/b", "666"), ("ann", "read", "/hall/a/b")],
                    takes("/hall", "owner", "", "wx"))
         self.check([("ann", "folder", "/tmp/a", "777"), ("ann", "remove", "/tmp/a")], [])
+        new = [("ann", "folder", "/tmp/a", "777"), ("ann", "allow", "/tmp/a", AccessList.everything())]
+        self.check(new + [("bob", "file", "/tmp/a/b", "666"), ("cal", "remove", "/tmp/a/b")], [])
 
     def test_marks(self):
         house, row = filled(), [("ann", "remove", "/lab/note")]

@@ -66,6 +66,14 @@ class PredicatesTest(unittest.TestCase):
         for value in NO_PATHS:
             self.assertIs(is_path(value), False, value)
 
+    def test_paths_part_by_part(self):
+        for letter in ("\u00e9", "\u00df", "\u03b1", "A", "1", "_", " "):
+            for path in (f"/{letter}", f"/a{letter}", f"/{letter}/b", f"/b/{letter}", f"/a/b{letter}c/d"):
+                self.assertIs(is_path(path), False, path)
+        for path in ("/abcdefgh/a", "/a/abcdefgh", "/a/b/abcdefgh/c"):
+            self.assertIs(is_path(path), True)
+            self.assertIs(is_path(path.replace("h", "hi")), False)
+
     def test_paths_with_one_more_sign(self):
         for path, sign in itertools.product(["/a", "/home/ann"], SIGNS):
             self.assertIs(is_path(sign + path), False, sign + path)
